@@ -1,0 +1,1 @@
+"""Cuebook: a troupe that plays from cue parts alone."""

@@ -1,0 +1,93 @@
+"""What several tests need: plays, things of all kinds, and windows straight by their definition."""
+
+
+class Strange:
+    """A thing that cannot be compared, counted or walked."""
+
+    def __eq__(self, other):
+        raise AssertionError("compared")
+
+    def __hash__(self):
+        return 7
+
+    def __len__(self):
+        raise AssertionError("counted")
+
+    def __iter__(self):
+        raise AssertionError("walked")
+
+    def __bool__(self):
+        raise AssertionError("asked for its truth")
+
+
+def looped():
+    things = []
+    things.append(things)
+    return things
+
+
+def nested(depth):
+    thing = ()
+    for _ in range(depth):
+        thing = (thing,)
+    return thing
+
+
+def odd_things():
+    """Things of many kinds: none is a word, a name, names or words of a speech, a speech, a play, counts or books."""
+    return [
+        None, 0, 1, 7, -1, 10 ** 50, True, False, 1.5, float("nan"), 2j, b"ann", bytearray(b"ann"),
+        "", " ", "Ann", "ann bob", "ann: hello", "a" * 100000, [], [[]], ["ann"], [["ann"], ["hello"]],
+        [(("ann",), ("hello",))], ("ann", 7), ("ann", ""), (("ann",), ["hello"]), ((),), (None,), (7,), ((), ()),
+        (((), ()),), ((None, None),), (("ab", "c d"),), (Strange(),), ((Strange(), Strange()),),
+        (((Strange(),), (Strange(),)),), {"ann": None}, {None: None}, {7: (), "ann": ()}, {"ann": ((),)},
+        set(), {1, 2}, frozenset(), range(3), object(), Strange(), len, int, lambda: (), looped(), nested(20000),
+    ]
+
+
+SHORT = (
+    (("ann",), ("to", "be")),
+    (("bob",), ("or", "not", "to")),
+    (("ann", "cid"), ("be",)),
+    (("dan",), ("that", "is")),
+    (("bob", "cid"), ("the", "question")),
+    (("ann", "eve"), ("to", "be")),
+)
+
+# The sizes of SHORT's windows, counted by hand.
+SHORT_SIZES = ((0,), (2,), (3, 5), (6,), (3, 2), (4, 10))
+
+NAMES = ("ann", "bob", "cid", "dan", "eve", "fay", "gus", "hal")
+
+
+def numbers_from(seed):
+    while True:
+        seed = (seed * 1103515245 + 12345) % 2 ** 31
+        yield seed // 2 ** 16
+
+
+def long_play(seed, speeches, names=8):
+    """A play of so many speeches; the same seed gives the same play."""
+    numbers = numbers_from(seed)
+    play = []
+    ahead = ()
+    for _ in range(speeches):
+        free = [name for name in NAMES[:names] if name not in ahead]
+        many = 1 + next(numbers) % max(1, len(free) // 2)
+        chosen = set()
+        while len(chosen) < many:
+            chosen.add(free[next(numbers) % len(free)])
+        words = tuple("abc"[next(numbers) % 3] for _ in range(1 + next(numbers) % 6))
+        ahead = tuple(sorted(chosen))
+        play.append((ahead, words))
+    return tuple(play)
+
+
+def long_plays():
+    return [long_play(seed, 2 + 7 * seed, 2 + seed % 7) for seed in range(10)] + [long_play(99, 60), long_play(100, 90)]
+
+
+def plain_window(play, at, name):
+    own = [number for number in range(at) if name in play[number][0]]
+    first = own[-1] + 1 if own else 0
+    return tuple(word for speech in play[first:at] for word in speech[1])
