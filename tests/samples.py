@@ -1,4 +1,4 @@
-"""What several tests need: plays, things of all kinds, and windows straight by their definition."""
+"""What several tests need: plays, counts, things of all kinds, and what is told of plays straight by its definition."""
 
 
 class Strange:
@@ -91,3 +91,42 @@ def plain_window(play, at, name):
     own = [number for number in range(at) if name in play[number][0]]
     first = own[-1] + 1 if own else 0
     return tuple(word for speech in play[first:at] for word in speech[1])
+
+
+def plain_counts(play, chosen):
+    """Counts of a play; chosen(size) tells the count for a window of that size."""
+    return tuple(
+        tuple(chosen(len(plain_window(play, at, name))) if at else 0 for name in names)
+        for at, (names, _) in enumerate(play)
+    )
+
+
+def drawn_counts(play, seed):
+    numbers = numbers_from(seed)
+    return plain_counts(play, lambda size: 1 + next(numbers) % min(size, 1 + next(numbers) % 12))
+
+
+def plain_false_places(play, at, name, many):
+    heard = plain_window(play, at, name)
+    cue = heard[len(heard) - many:]
+    begin = sum(len(words) for _, words in play[:at])
+    found = []
+    for count in range(1, len(heard)):
+        if count >= many and heard[:count][count - many:] == cue:
+            found.append(begin - len(heard) + count)
+    return tuple(found)
+
+
+def plain_false_moments(play, counts):
+    found = []
+    for at, (names, _) in enumerate(play):
+        for name, many in zip(names, counts[at]):
+            found.extend((place, name, at) for place in plain_false_places(play, at, name, many))
+    return tuple(sorted(found))
+
+
+def plain_least(play):
+    def least_of(at, name):
+        return next(many for many in range(1, 10 ** 9) if not plain_false_places(play, at, name, many))
+
+    return tuple(tuple(least_of(at, name) if at else 0 for name in names) for at, (names, _) in enumerate(play))

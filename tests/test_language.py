@@ -24,6 +24,8 @@ UNDERSCORED = {"__init__", "__eq__", "__repr__", "__str__", "__len__"}
 
 BARRED = set("register mro elements open input version_info with_traceback add_note format format_map args".split())
 
+OWN_KINDS = (str, int, list, tuple, dict, set, bytes)
+
 BARRED_WORDS = (
     r"\b(type|typing|typing_extensions|enum|Enum|IntEnum|StrEnum|Flag|IntFlag|Generic|Protocol|ABC|ABCMeta|namedtuple"
     r"|NamedTuple|TypedDict|TYPE_CHECKING|abstractmethod)\b|dataclass|overload|contextmanager"
@@ -149,6 +151,29 @@ class Language(unittest.TestCase):
         for name, node in walked(ast.Call):
             if isinstance(node.func, ast.Attribute):
                 self.assertIn(node.func.attr, METHODS | UNDERSCORED | own, (name, node.lineno))
+
+    def test_no_name_is_a_method_and_a_value(self):
+        methods = {part.name for name, node in walked(ast.ClassDef) for part in node.body if hasattr(part, "name")}
+        for name, node in walked(ast.Attribute):
+            if isinstance(node.ctx, ast.Store):
+                self.assertNotIn(node.attr, methods, (name, node.lineno))
+                self.assertFalse(any(hasattr(kind, node.attr) for kind in OWN_KINDS), (name, node.lineno))
+
+    def test_bases_are_only_called_for_what_they_make(self):
+        classes = {node.name for name, node in walked(ast.ClassDef)}
+        for name, node in walked(ast.Attribute):
+            if isinstance(node.value, ast.Name) and node.value.id in classes:
+                self.assertEqual(node.attr, "__init__", (name, node.lineno))
+
+    def test_no_two_files_draw_from_one_another(self):
+        drawn = {name: [] for name, tree in trees()}
+        for name, node in walked(ast.ImportFrom):
+            drawn[name].append(node.module.split(".")[1] + ".py")
+        while drawn:
+            free = [name for name in drawn if not any(other in drawn for other in drawn[name])]
+            self.assertNotEqual(free, [], sorted(drawn))
+            for name in free:
+                drawn.pop(name)
 
     def test_is_stands_beside_none_and_truths(self):
         for name, node in walked(ast.Compare):
