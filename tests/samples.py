@@ -1,5 +1,7 @@
 """What several tests need: plays, counts, things of all kinds, and what is told of plays straight by its definition."""
 
+from cuebook.errors import CueError
+
 
 class Strange:
     """A thing that cannot be compared, counted or walked."""
@@ -18,6 +20,11 @@ class Strange:
 
     def __bool__(self):
         raise AssertionError("asked for its truth")
+
+
+def refusals_of(error):
+    """The names of all refusals that an error is one of."""
+    return [kind.__name__ for kind in [CueError] + CueError.__subclasses__() if isinstance(error, kind)]
 
 
 def looped():
@@ -66,8 +73,8 @@ def numbers_from(seed):
         yield seed // 2 ** 16
 
 
-def long_play(seed, speeches, names=8):
-    """A play of so many speeches; the same seed gives the same play."""
+def long_play(seed, speeches, names=8, letters="abc", most=6):
+    """A play of so many speeches of at most so many words; the same seed gives the same play."""
     numbers = numbers_from(seed)
     play = []
     ahead = ()
@@ -77,7 +84,7 @@ def long_play(seed, speeches, names=8):
         chosen = set()
         while len(chosen) < many:
             chosen.add(free[next(numbers) % len(free)])
-        words = tuple("abc"[next(numbers) % 3] for _ in range(1 + next(numbers) % 6))
+        words = tuple(letters[next(numbers) % len(letters)] for _ in range(1 + next(numbers) % most))
         ahead = tuple(sorted(chosen))
         play.append((ahead, words))
     return tuple(play)

@@ -3,10 +3,13 @@
 import sys
 import unittest
 
-from cuebook.books import alike, cut, whole_counts
+from cuebook.books import alike, cut, total, whole_counts
+from cuebook.joining import joined, plays_of
 from cuebook.matching import false_moments, false_places, least, shown
+from cuebook.prompting import holds_for
 from cuebook.stage import performed
-from samples import NAMES
+from cuebook.thrift import thrifty
+from samples import NAMES, long_play
 
 
 def lines_run(asked):
@@ -50,7 +53,23 @@ def asked_of(play):
         "false_moments of whole windows": lambda: false_moments(play, whole_counts(play)),
         "least": lambda: least(play),
         "shown": lambda: shown(play),
+        "holds_for": lambda: holds_for(play, alike(play, 1)),
+        "joined": lambda: joined(cut(play, whole_counts(play))),
     }
+
+
+def thrift_bound(play):
+    """The product of the cues, the sum of all windows and the longest window."""
+    windows = [size for row in whole_counts(play)[1:] for size in row]
+    return len(windows) * sum(windows) * max(windows)
+
+
+def plays_of_a_hundred_words():
+    many = [by_turns(50), by_turns(50, 8), by_turns(100, 3, ("a",)), by_turns(25, 8, ("a",) * 4)]
+    many.extend(one_long_window(99, names) for names in (1, 3, 8))
+    many.append((((NAMES[:4]), ("a",)), ((NAMES[4:]), ("a",))) * 50)
+    drawn = [long_play(seed, 28, 2 + seed % 7, "a" * (seed % 2) + "ab") for seed in range(8)]
+    return many + [play for play in drawn if sum(len(words) for _, words in play) <= 100]
 
 
 class Growth(unittest.TestCase):
@@ -79,6 +98,43 @@ class Growth(unittest.TestCase):
         for what, asked in asked_of(play).items():
             with self.subTest(what):
                 self.assertLessEqual(lines_run(asked), 10 * 400 * 8 * 400)
+
+
+class ThriftGrowth(unittest.TestCase):
+    def lines(self, play, most):
+        return lines_run(lambda: thrifty(play, most))
+
+    def grows(self, small, large):
+        times = thrift_bound(large) / thrift_bound(small)
+        for least_most in (True, False):
+            few, many = [total(alike(play, 1)) if least_most else 10 ** 30 for play in (small, large)]
+            self.assertLessEqual(self.lines(large, many), self.lines(small, few) * times * 1.1 + 300)
+
+    def test_longer_windows(self):
+        for names in (1, 2, 8):
+            self.grows(one_long_window(24, names), one_long_window(96, names))
+
+    def test_more_cues(self):
+        self.grows(one_long_window(60, 2), one_long_window(60, 8))
+        self.grows(by_turns(12), by_turns(48))
+        self.grows(by_turns(16, 8, ("a", "a")), by_turns(48, 8, ("a", "a")))
+
+    def test_plays_of_at_most_a_hundred_words(self):
+        plays = plays_of_a_hundred_words()
+        self.assertGreater(len(plays), 10)
+        for play in plays:
+            needed = total(alike(play, 1))
+            whole = total(whole_counts(play))
+            for most in (needed, (needed + whole) // 2, whole, 10 ** 30):
+                self.assertLessEqual(self.lines(play, most), 3 * thrift_bound(play) + 3000)
+
+
+class SearchGrowth(unittest.TestCase):
+    def test_what_was_tried_in_vain_is_not_tried_again(self):
+        # Nothing is promised for so many entries; but orders that come to the same would be tried by ten thousands.
+        books = {name: ((("a",), (name,), ("a",)),) * 2 for name in NAMES[:5]}
+        books["fay"] = (((), ("fay",), ("a",)), (("never",), ("fay",), ("a",)))
+        self.assertLessEqual(lines_run(lambda: self.assertEqual(plays_of(books), ())), 500000)
 
 
 if __name__ == "__main__":

@@ -1,46 +1,16 @@
-"""What is promised of plays and counts as a whole: performances, false moments and the least counts fit together."""
+"""What is promised of plays, counts and books as a whole: all that the program tells of them fits together."""
 
-import itertools
 import unittest
 
-from cuebook.books import alike, cut, is_counts, whole_counts
+from cuebook.books import cut, is_counts, total
+from cuebook.errors import Apart
+from cuebook.joining import joined, plays_of
 from cuebook.matching import false_moments, least, shown
-from cuebook.plays import begins, names_in, words_in
+from cuebook.plays import begins, is_play, names_in, words_in
+from cuebook.prompting import holds_for
 from cuebook.stage import performed
-from samples import SHORT, drawn_counts, long_play, long_plays, numbers_from
-
-ONE_WORD = tuple(((name,), ("a",)) for name in ("ann", "bob", "cid", "ann", "cid", "bob"))
-
-
-def drawn_plays():
-    return [(), SHORT, ONE_WORD] + [long_play(seed, 1 + seed % 14, 2 + seed % 6) for seed in range(60)] + long_plays()
-
-
-def drawn_pairs():
-    """Plays with counts of them: short cues, middling ones and long ones, and such near the least."""
-    found = []
-    for seed, play in enumerate(drawn_plays()):
-        numbers = numbers_from(seed)
-        near = tuple(
-            tuple(max(min(size, 1), many - (next(numbers) % 25 == 0)) for many, size in zip(row, sizes))
-            for row, sizes in zip(least(play), whole_counts(play))
-        )
-        choices = [alike(play, many) for many in (1, 2, 4, 9)] + [near, least(play), whole_counts(play)]
-        found.extend((play, counts) for counts in choices + [drawn_counts(play, seed), drawn_counts(play, 999 - seed)])
-    return found
-
-
-def small_pairs():
-    """Small plays with all of their counts."""
-    found = []
-    for seed in range(40):
-        play = long_play(seed, 1 + seed % 4, 2 + seed % 3)
-        choices = [range(min(size, 1), size + 1) for row in whole_counts(play) for size in row]
-        ends = list(itertools.accumulate(len(names) for names, _ in play))
-        for numbers in itertools.islice(itertools.product(*choices), 400):
-            counts = tuple(numbers[end - len(names):end] for end, (names, _) in zip(ends, play))
-            found.append((play, counts))
-    return found
+from cuebook.thrift import thrifty
+from drawn import counts_as_in, drawn_books, drawn_pairs, drawn_plays, small_books, small_pairs
 
 
 def one_fewer(counts, at, number):
@@ -128,21 +98,58 @@ class Promise(unittest.TestCase):
 
     def test_holding_just_the_false_moments_brings_the_whole_play(self):
         for play, counts in self.pairs:
-            holds = tuple((place, name) for place, name, _ in false_moments(play, counts))
-            self.assertEqual(performed(cut(play, counts), holds), (play, ("done", len(words_in(play)), ())))
+            wanted = (play, ("done", len(words_in(play)), ()))
+            self.assertEqual(performed(cut(play, counts), holds_for(play, counts)), wanted)
 
     def test_each_hold_of_a_false_moment_is_needed(self):
         for play, counts in self.pairs[::7]:
-            holds = [(place, name) for place, name, _ in false_moments(play, counts)]
+            holds = holds_for(play, counts)
             for hold in holds[:5]:
                 others = [other for other in holds if other != hold]
                 end = performed(cut(play, counts), others)[1]
                 self.assertEqual(end[1], hold[0])
                 self.assertIn(hold[1], end[2])
 
+    def test_thrifty_counts_held_speak_the_play(self):
+        for play, counts in drawn_pairs()[::5]:
+            found = thrifty(play, total(counts))
+            self.assertLessEqual(len(false_moments(play, found)), len(false_moments(play, counts)))
+            wanted = (play, ("done", len(words_in(play)), ()))
+            self.assertEqual(performed(cut(play, found), holds_for(play, found)), wanted)
+
     def test_the_names_that_are_told_are_of_the_play(self):
         for play, counts in self.pairs:
             self.assertLessEqual(set(performed(cut(play, counts))[1][2]), set(names_in(play)))
+
+
+class SpokenToTheEnd(unittest.TestCase):
+    def spoken_from(self, books):
+        """The play that the books are joined to; it is their only one. None, where they are apart."""
+        try:
+            play = joined(books)
+        except Apart:
+            return None
+        self.assertIs(is_play(play), True)
+        self.assertEqual(cut(play, counts_as_in(play, books)), books)
+        self.assertEqual(plays_of(books), (play,))
+        return play
+
+    def test_books_of_any_kind(self):
+        found = [self.spoken_from(books) for books in drawn_books() + small_books()]
+        self.assertGreater(len(found) - found.count(None), 200)
+        self.assertGreater(found.count(None), 100)
+
+    def test_books_of_plays(self):
+        for play, counts in drawn_pairs() + small_pairs()[::5]:
+            wanted = play if false_moments(play, counts) == () else None
+            self.assertEqual(self.spoken_from(cut(play, counts)), wanted)
+
+    def test_books_with_several_plays_or_none_are_apart(self):
+        many = [len(plays_of(books)) for books in small_books()]
+        for books, number in zip(small_books(), many):
+            if number != 1:
+                self.assertRaises(Apart, joined, books)
+        self.assertGreater(min(many.count(0), many.count(2)), 30)
 
 
 if __name__ == "__main__":

@@ -1,9 +1,10 @@
 import copy
 import unittest
 
-from cuebook.books import alike, cut, is_books, whole_counts
+from cuebook.books import alike, cut, whole_counts
 from cuebook.matching import false_moments
 from cuebook.stage import performed
+from drawn import drawn_books
 from samples import NAMES, SHORT, SHORT_SIZES, drawn_counts, long_play, long_plays, numbers_from
 
 DUEL = (
@@ -51,46 +52,6 @@ def plain_performed(books, holds=()):
         for name in those:
             next_entry[name] += 1
             since[name] = len(words)
-
-
-def changed_books(books, numbers):
-    """Books with one thing changed, perhaps such that they are those of no play."""
-    name = sorted(books)[next(numbers) % len(books)]
-    entries = list(books[name])
-    number = next(numbers) % len(entries)
-    cue, names, words = entries[number]
-    what = next(numbers) % 7
-    if what == 0:
-        entries.pop(number)
-    elif what == 1:
-        entries.insert(number, (("a",), names, words))
-    elif what == 2:
-        entries[number] = (cue[1:], names, words)
-    elif what == 3:
-        entries[number] = (cue, names, words + ("b",))
-    elif what == 4:
-        entries[number] = (cue, tuple(sorted(set(names) | {"ann"})), words)
-    elif what == 5:
-        entries[number] = (cue, (name,), words)
-    other = dict(books)
-    other[name] = tuple(entries)
-    if what == 6 or not entries:
-        other.pop(name)
-    return other
-
-
-def drawn_books():
-    numbers = numbers_from(11)
-    found = []
-    for seed in range(300):
-        play = long_play(seed, 2 + seed % 9, 2 + seed % 4)
-        books = cut(play, whole_counts(play) if seed % 3 else drawn_counts(play, seed))
-        for _ in range(seed % 3):
-            if books:
-                books = changed_books(books, numbers)
-        if is_books(books):
-            found.append(books)
-    return found
 
 
 class Performing(unittest.TestCase):
