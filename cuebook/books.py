@@ -54,10 +54,14 @@ def total(counts):
     return sum([sum(row) for row in counts])
 
 
-def cut(play, counts):
-    amiss = amiss_at(play, counts)
+def check_counts(play, thing):
+    amiss = amiss_at(play, thing)
     if amiss is not None:
         raise NoCounts(amiss)
+
+
+def cut(play, counts):
+    check_counts(play, counts)
     entries = {}
     for name in names_in(play):
         entries[name] = []
@@ -96,3 +100,9 @@ def sizes(books):
     for name, entries in books.items():
         found[name] = tuple([len(entry[0]) for entry in entries])
     return found
+
+
+def entry_at(books, name, number):
+    # None stands for an entry that is lacking; a name that stands in one may have no book itself.
+    entries = books.get(name, ())
+    return entries[number] if number < len(entries) else None

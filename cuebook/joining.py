@@ -1,6 +1,6 @@
 """Plays put together from books: the one that is spoken from them, and all those that are cut into them."""
 
-from cuebook.books import is_book
+from cuebook.books import entry_at, is_book
 from cuebook.errors import Apart, NoBooks
 from cuebook.stage import performed
 
@@ -43,12 +43,6 @@ def empty_part(books):
         spoken[name] = 0
         heard[name] = ()
     return Part((), spoken, heard)
-
-
-def entry_at(books, name, number):
-    # A name that stands in an entry may have no book itself.
-    entries = books.get(name, ())
-    return entries[number] if number < len(entries) else None
 
 
 def may_speak(books, part, name, speech):

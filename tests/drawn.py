@@ -4,7 +4,8 @@ import itertools
 
 from cuebook.books import alike, cut, is_books, sizes, whole_counts
 from cuebook.matching import least
-from samples import SHORT, drawn_counts, long_play, long_plays, numbers_from
+from cuebook.plays import names_in
+from samples import NAMES, SHORT, drawn_counts, long_play, long_plays, numbers_from
 
 ONE_WORD = tuple(((name,), ("a",)) for name in ("ann", "bob", "cid", "ann", "cid", "bob"))
 
@@ -107,4 +108,66 @@ def small_books():
                 books = changed_books(books, numbers)
         if is_books(books) and sum(map(len, books.values())) <= 8:
             found.append(books)
+    return found
+
+
+def in_acts(seed):
+    """A play of two or three acts with players of their own, so that many roles never meet."""
+    acts = []
+    for act in range(2 + seed % 2):
+        names = dict(zip(NAMES, NAMES[act * 3:act * 3 + 3]))
+        for speakers, words in long_play(seed * 3 + act, 2 + (seed + act) % 5, min(3, 8 - 3 * act)):
+            acts.append((tuple(sorted(names[name] for name in speakers)), words))
+    return tuple(acts)
+
+
+def cast_plays():
+    return drawn_plays() + [in_acts(seed) for seed in range(80)]
+
+
+def pairs_that_meet(play):
+    """All pairs of unlike names that stand in one speech or in two neighbouring ones."""
+    together = [early[0] + late[0] for early, late in zip(play, play[1:])] + [names for names, _ in play]
+    return {(one, other) for names in together for one in names for other in names if one != other}
+
+
+def drawn_cast(numbers):
+    """A cast of some names, perhaps of such that the play lacks; mostly some of its players meet."""
+    names = NAMES + ("zoe",)
+    return {names[next(numbers) % 9]: names[next(numbers) % 9] for _ in range(next(numbers) % 6)}
+
+
+def cast_without_meeting(play, numbers):
+    """A cast by which no player meets itself: names that don't meet share players, and these are called anyhow."""
+    meet = pairs_that_meet(play)
+    groups = []
+    for name in names_in(play):
+        free = [group for group in groups if not any((name, other) in meet for other in group)]
+        if free and next(numbers) % 4:
+            free[next(numbers) % len(free)].append(name)
+        else:
+            groups.append([name])
+    players = list(NAMES + ("ivy", "zoe"))
+    cast = {"lacking": "ann"} if next(numbers) % 3 == 0 else {}
+    for group in groups:
+        player = players.pop(next(numbers) % len(players))
+        cast.update((name, player) for name in group)
+    return cast
+
+
+def cast_pairs():
+    """Plays with casts by which no player meets itself."""
+    found = []
+    for seed, play in enumerate(cast_plays()):
+        numbers = numbers_from(seed)
+        found.extend((play, cast_without_meeting(play, numbers)) for _ in range(3))
+    return found
+
+
+def cast_triples():
+    """Plays, casts by which no player meets itself, and counts of the plays, good ones and others."""
+    found = []
+    for seed, (play, cast) in enumerate(cast_pairs()):
+        choices = [alike(play, 1), alike(play, 2), least(play), whole_counts(play), drawn_counts(play, seed)]
+        found.extend((play, cast, counts) for counts in choices)
     return found

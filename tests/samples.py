@@ -66,6 +66,58 @@ SHORT_SIZES = ((0,), (2,), (3, 5), (6,), (3, 2), (4, 10))
 
 NAMES = ("ann", "bob", "cid", "dan", "eve", "fay", "gus", "hal")
 
+# What is no pair of names and words, whatever stands ahead of it.
+AMISS = {
+    "nothing": None,
+    "a number": 7,
+    "a truth": True,
+    "a text": "ab",
+    "a text of two texts": ("ab", "cd"),
+    "a dict": {0: ["cid"], 1: ["word"]},
+    "a pair of none": (),
+    "a list of none": [],
+    "a pair of one": (["cid"],),
+    "a list of one": [["cid"]],
+    "a pair of three": (["cid"], ["word"], ["more"]),
+    "a list of three": [["cid"], ["word"], []],
+    "no names": ([], ["word"]),
+    "a tuple of no names": ((), ["word"]),
+    "nine names": (list(NAMES) + ["ida"], ["word"]),
+    "nine times the same name": (["cid"] * 9, ["word"]),
+    "a capital in a name": (["Cid"], ["word"]),
+    "an empty name": ([""], ["word"]),
+    "a name of nine letters": (["abcdefghi"], ["word"]),
+    "a name that is None": ([None], ["word"]),
+    "a name that is a number": ([7], ["word"]),
+    "a name that is a list": ([["cid"]], ["word"]),
+    "a good name and a bad one": (["cid", "d1"], ["word"]),
+    "a good name and none": (["cid", None], ["word"]),
+    "a name twice": (["cid", "cid"], ["word"]),
+    "a name twice, apart": (["cid", "dan", "cid"], ["word"]),
+    "no words": (["cid"], []),
+    "a tuple of no words": (["cid"], ()),
+    "a capital in a word": (["cid"], ["Word"]),
+    "an empty word": (["cid"], ["word", ""]),
+    "a word of thirteen letters": (["cid"], ["abcdefghijklm"]),
+    "a word that is None": (["cid"], ["word", None]),
+    "a word that is a number": (["cid"], [7]),
+    "a word that is a list": (["cid"], [["word"]]),
+    "a blank in a word": (["cid"], ["two words"]),
+    "a text in the place of names": ("cid", ["word"]),
+    "a text in the place of words": (["cid"], "word"),
+    "a dict in the place of names": ({"cid": True}, ["word"]),
+    "a dict in the place of words": (["cid"], {"word": True}),
+    "a set in the place of names": ({"cid"}, ["word"]),
+    "None in the place of names": (None, ["word"]),
+    "None in the place of words": (["cid"], None),
+    "something strange": Strange(),
+    "something strange as names": (Strange(), ["word"]),
+    "something strange as words": (["cid"], Strange()),
+    "something strange as a name": ([Strange()], ["word"]),
+    "something strange as a word": (["cid"], [Strange()]),
+    "itself": looped(),
+}
+
 
 def numbers_from(seed):
     while True:

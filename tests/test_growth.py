@@ -1,14 +1,19 @@
 """How time may grow: told by the number of the program's lines that are run, which is the same on every machine."""
 
+import copy
 import sys
 import unittest
 
 from cuebook.books import alike, cut, total, whole_counts
+from cuebook.casting import doubled, fitted
+from cuebook.changes import left_out, put_in, unlike
 from cuebook.joining import joined, plays_of
 from cuebook.matching import false_moments, false_places, least, shown
 from cuebook.prompting import holds_for
 from cuebook.stage import performed
+from cuebook.texts import book_rows, play_rows, read_book, read_play
 from cuebook.thrift import thrifty
+from cuebook.troupe import Troupe
 from samples import NAMES, long_play
 
 
@@ -58,6 +63,40 @@ def asked_of(play):
     }
 
 
+def asked_of_later_stages(play):
+    name = play[-1][0][0]
+    cast = {other: other[::-1] for other in NAMES}
+    whole = cut(play, whole_counts(play))
+    ones = cut(play, alike(play, 1))
+    return {
+        "doubled": lambda: doubled(play, cast),
+        "fitted": lambda: fitted(play, cast, whole_counts(play)),
+        "left_out": lambda: left_out(play, (0, len(play), 0)),
+        "put_in": lambda: put_in(play, len(play), (("yan",), ("a",))),
+        "unlike": lambda: unlike(whole, ones),
+        "play_rows": lambda: play_rows(play),
+        "book_rows": lambda: book_rows(whole[name]),
+        "read_play": lambda: read_play(play_rows(play)),
+        "read_book": lambda: read_book(name, book_rows(whole[name])),
+    }
+
+
+def asked_of_a_troupe(play):
+    """Each line is said to a troupe of its own, which has been told the play."""
+    troupe = Troupe()
+    for row in play_rows(play):
+        troupe.say("add " + row)
+    troupe.say("cues 1")
+
+    def said(line):
+        other = copy.copy(troupe)
+        return lambda: other.say(line)
+
+    return {line: said(line) for line in (
+        "add yan: a", "out 0", "double ann yan", "cues 3", "cues least", "go", "go held", "holds", "paper", "book ann", "size",
+    )}
+
+
 def thrift_bound(play):
     """The product of the cues, the sum of all windows and the longest window."""
     windows = [size for row in whole_counts(play)[1:] for size in row]
@@ -73,11 +112,14 @@ def plays_of_a_hundred_words():
 
 
 class Growth(unittest.TestCase):
+    asked = staticmethod(asked_of)
+
     def grows(self, small, large, most):
         """Lines grow at most so many times, with a tenth and some lines more allowed for what does not grow."""
-        for what, asked in asked_of(small).items():
+        asked_of_large = self.asked(large)
+        for what, asked in self.asked(small).items():
             with self.subTest(what):
-                self.assertLessEqual(lines_run(asked_of(large)[what]), lines_run(asked) * most * 1.1 + 200)
+                self.assertLessEqual(lines_run(asked_of_large[what]), lines_run(asked) * most * 1.1 + 200)
 
     def test_more_words_with_windows_as_they_were(self):
         self.grows(by_turns(50), by_turns(200), 4)
@@ -95,9 +137,17 @@ class Growth(unittest.TestCase):
 
     def test_the_largest_plays(self):
         play = one_long_window(391, 8)
-        for what, asked in asked_of(play).items():
+        for what, asked in self.asked(play).items():
             with self.subTest(what):
                 self.assertLessEqual(lines_run(asked), 10 * 400 * 8 * 400)
+
+
+class LaterGrowth(Growth):
+    asked = staticmethod(asked_of_later_stages)
+
+
+class TroupeGrowth(Growth):
+    asked = staticmethod(asked_of_a_troupe)
 
 
 class ThriftGrowth(unittest.TestCase):

@@ -38,6 +38,11 @@ NODES = set(
     "NotIn IfExp Call keyword Attribute Subscript Slice ListComp comprehension JoinedStr FormattedValue Lambda".split()
 )
 
+WALKS = {"zip", "enumerate", "reversed", "range", "items", "keys", "values"}
+
+# What may walk these on the spot, as the first thing that it is called with.
+WALKERS = {"list", "tuple", "dict", "sorted", "sum", "any", "all", "enumerate", "zip", "min", "max"}
+
 TOP_NODES = (ast.ImportFrom, ast.FunctionDef, ast.ClassDef, ast.Assign)
 
 
@@ -51,6 +56,22 @@ def trees():
 
 def walked(kinds):
     return [(name, node) for name, tree in trees() for node in ast.walk(tree) if isinstance(node, kinds)]
+
+
+def parents(tree):
+    return {child: node for node in ast.walk(tree) for child in ast.iter_child_nodes(node)}
+
+
+def called(node):
+    """The name of the function or method that a call calls; None for what is no call."""
+    return getattr(node.func, "id", getattr(node.func, "attr", None)) if isinstance(node, ast.Call) else None
+
+
+def is_set_beside_others(node, above):
+    """Whether a call of set stands where it is neither kept nor walked."""
+    while isinstance(above[node], ast.BinOp):
+        node = above[node]
+    return isinstance(above[node], ast.Compare) or called(above[node]) in ("sorted", "len")
 
 
 def bound_at_the_top(tree):
@@ -67,7 +88,8 @@ def bound_at_the_top(tree):
 
 def bound_within(tree):
     stored = [node.id for node in ast.walk(tree) if isinstance(node, ast.Name) and isinstance(node.ctx, ast.Store)]
-    return stored + [node.arg for node in ast.walk(tree) if isinstance(node, ast.arg)]
+    taken = [node.name for node in ast.walk(tree) if isinstance(node, ast.ExceptHandler) and node.name]
+    return stored + taken + [node.arg for node in ast.walk(tree) if isinstance(node, ast.arg)]
 
 
 def top_names_but_values(tree):
@@ -182,6 +204,29 @@ class Language(unittest.TestCase):
                     self.assertIsInstance(right, ast.Constant, (name, node.lineno))
                     self.assertIn(right.value, (None, True, False), (name, node.lineno))
 
+    def test_walked_at_once(self):
+        for name, tree in trees():
+            above = parents(tree)
+            for node in ast.walk(tree):
+                if called(node) in WALKS:
+                    over = above[node]
+                    walked_here = isinstance(over, (ast.For, ast.comprehension)) and over.iter == node
+                    self.assertTrue(walked_here or called(over) in WALKERS, (name, node.lineno))
+
+    def test_sets_are_not_kept(self):
+        for name, tree in trees():
+            above = parents(tree)
+            for node in ast.walk(tree):
+                if isinstance(node, ast.Set) or called(node) in ("set", "frozenset"):
+                    self.assertTrue(is_set_beside_others(node, above), (name, node.lineno))
+
+    def test_errors_are_raised_and_taken_by_name(self):
+        own = {node.name for name, node in walked(ast.ClassDef)}
+        for name, node in walked(ast.ExceptHandler):
+            self.assertIn(getattr(node.type, "id", None), own, (name, node.lineno))
+        for name, node in walked(ast.Raise):
+            self.assertIn(called(node.exc), own, (name, node.lineno))
+
     def test_small_forms(self):
         for name, node in walked(ast.Assign):
             self.assertEqual(len(node.targets), 1, (name, node.lineno))
@@ -193,6 +238,9 @@ class Language(unittest.TestCase):
         for name, node in walked(ast.Constant):
             self.assertIsInstance(node.value, (int, str, bool, type(None)), (name, node.lineno))
             self.assertFalse(isinstance(node.value, str) and "%" in node.value, (name, node.lineno))
+        for name, node in walked(ast.FormattedValue):
+            self.assertIsInstance(node.value, ast.Name, (name, node.lineno))
+            self.assertIsNone(node.format_spec, (name, node.lineno))
         for name, node in walked(ast.Expr):
             text = isinstance(node.value, ast.Constant) and isinstance(node.value.value, str)
             self.assertTrue(text or isinstance(node.value, ast.Call), (name, node.lineno))

@@ -2,7 +2,8 @@
 
 import unittest
 
-from cuebook.books import cut, is_counts, total
+from cuebook.books import cut, is_books, is_counts, total
+from cuebook.casting import doubled, fitted
 from cuebook.errors import Apart
 from cuebook.joining import joined, plays_of
 from cuebook.matching import false_moments, least, shown
@@ -10,7 +11,13 @@ from cuebook.plays import begins, is_play, names_in, words_in
 from cuebook.prompting import holds_for
 from cuebook.stage import performed
 from cuebook.thrift import thrifty
-from drawn import counts_as_in, drawn_books, drawn_pairs, drawn_plays, small_books, small_pairs
+from cuebook.texts import book_rows, play_rows, read_book, read_play
+from drawn import cast_pairs, cast_triples, counts_as_in, drawn_books, drawn_pairs, drawn_plays, small_books, small_pairs
+
+
+def doubled_pairs():
+    """Doubled plays with the counts that are fitted to them."""
+    return [(doubled(play, cast), fitted(play, cast, counts)) for play, cast, counts in cast_triples()]
 
 
 def one_fewer(counts, at, number):
@@ -21,7 +28,7 @@ def one_fewer(counts, at, number):
 class Promise(unittest.TestCase):
     @classmethod
     def setUpClass(cls):
-        cls.pairs = drawn_pairs() + small_pairs()
+        cls.pairs = drawn_pairs() + small_pairs() + doubled_pairs()
 
     def test_the_pairs_are_of_both_kinds(self):
         good = [pair for pair in self.pairs if false_moments(*pair) == ()]
@@ -78,12 +85,12 @@ class Promise(unittest.TestCase):
             self.assertEqual(any(below), false_moments(play, counts) != ())
 
     def test_the_least_counts_speak_the_play(self):
-        for play in drawn_plays():
+        for play in drawn_plays() + [doubled(*pair) for pair in cast_pairs()]:
             self.assertEqual(false_moments(play, least(play)), ())
             self.assertEqual(performed(cut(play, least(play))), (play, ("done", len(words_in(play)), ())))
 
     def test_one_word_less_has_a_false_moment_at_the_told_place(self):
-        for play in drawn_plays():
+        for play in drawn_plays() + [doubled(*pair) for pair in cast_pairs()[::3]]:
             counts = least(play)
             told = {(at, name): place for at, name, place in shown(play)}
             for at, (names, _) in enumerate(play):
@@ -140,7 +147,7 @@ class SpokenToTheEnd(unittest.TestCase):
         self.assertGreater(found.count(None), 100)
 
     def test_books_of_plays(self):
-        for play, counts in drawn_pairs() + small_pairs()[::5]:
+        for play, counts in drawn_pairs() + small_pairs()[::5] + doubled_pairs()[::2]:
             wanted = play if false_moments(play, counts) == () else None
             self.assertEqual(self.spoken_from(cut(play, counts)), wanted)
 
@@ -150,6 +157,38 @@ class SpokenToTheEnd(unittest.TestCase):
             if number != 1:
                 self.assertRaises(Apart, joined, books)
         self.assertGreater(min(many.count(0), many.count(2)), 30)
+
+
+class RolesOfOnePlayer(unittest.TestCase):
+    @classmethod
+    def setUpClass(cls):
+        cls.triples = cast_triples()
+        cls.good = [triple for triple in cls.triples if false_moments(triple[0], triple[2]) == ()]
+
+    def test_the_triples_are_of_both_kinds(self):
+        self.assertGreater(len(self.good), 500)
+        self.assertGreater(len(self.triples) - len(self.good), 500)
+
+    def test_a_good_cutting_stays_good(self):
+        for play, cast, counts in self.good:
+            other = doubled(play, cast)
+            books = cut(other, fitted(play, cast, counts))
+            self.assertIs(is_books(books), True)
+            self.assertEqual(performed(books), (other, ("done", len(words_in(play)), ())))
+            self.assertEqual(joined(books), other)
+
+    def test_a_bad_cutting_gains_no_false_moment(self):
+        for play, cast, counts in self.triples:
+            before = {(place, cast.get(name, name), at) for place, name, at in false_moments(play, counts)}
+            self.assertLessEqual(set(false_moments(doubled(play, cast), fitted(play, cast, counts))), before)
+
+    def test_what_is_written_speaks_alike(self):
+        for play, cast, counts in self.triples[::4]:
+            other = read_play(play_rows(doubled(play, cast)))
+            books = cut(other, fitted(play, cast, counts))
+            read = {name: read_book(name, book_rows(entries)) for name, entries in books.items()}
+            self.assertEqual(read, books)
+            self.assertEqual(performed(read), performed(books))
 
 
 if __name__ == "__main__":
